@@ -1,0 +1,1 @@
+"""Stack code turned back into expressions: the calls are in stackback.stackcode."""

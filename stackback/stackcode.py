@@ -1,0 +1,66 @@
+"""The calls: each takes whole numbers and lists of them, and answers a list of whole numbers."""
+
+from stackback.grammar import expression_of
+from stackback.nodes import DEEPEST, HIGHEST
+from stackback.printing import nesting_of, printed
+from stackback.recovering import simple_expression_of
+from stackback.refusals import CodeTooDeep, CodeTooLong, Refusal, TextTooHigh, TextTooLong, WrongParameterCount
+from stackback.writing import code_of
+
+MOST_PARAMETERS = 8
+LONGEST_CODE = 500
+LONGEST_TEXT = 2000
+
+
+def check_parameters(n):
+    if not 0 <= n <= MOST_PARAMETERS:
+        raise WrongParameterCount()
+
+
+def check_length(numbers):
+    if len(numbers) > LONGEST_CODE:
+        raise CodeTooLong()
+
+
+def taken_code(n, numbers):
+    """The simple expression of a code, unless the code is refused."""
+    check_length(numbers)
+    node = simple_expression_of(numbers, n)
+    if node.height > HIGHEST or nesting_of(node) > DEEPEST:
+        raise CodeTooDeep()
+    return node
+
+
+def taken_text(n, signs):
+    """The code of a text, unless the text is refused."""
+    if len(signs) > LONGEST_TEXT:
+        raise TextTooLong()
+    node = expression_of(signs)
+    if node.height > HIGHEST:
+        raise TextTooHigh()
+    numbers = code_of(node, n)
+    check_length(numbers)
+    return numbers
+
+
+def done(row):
+    """The answer of a call that is done and tells a text or a code."""
+    return [0, len(row)] + row
+
+
+def tree(n, code):
+    """The simple expression of a code, printed."""
+    try:
+        check_parameters(n)
+        return done(printed(taken_code(n, code)))
+    except Refusal as refusal:
+        return [refusal.number]
+
+
+def code(n, text):
+    """The code of a text."""
+    try:
+        check_parameters(n)
+        return done(taken_text(n, text))
+    except Refusal as refusal:
+        return [refusal.number]

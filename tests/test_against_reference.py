@@ -1,0 +1,141 @@
+"""Random rows and texts, right ones and such with faults: the program must answer as the reference does."""
+
+import random
+import unittest
+from fractions import Fraction
+
+import reference
+from helper import code, row, tree
+
+N = 3
+FRAGMENTS = (
+    list("()-+*/%^=<>,.:_019abfgtzAZ#")
+    + ["if ", " then ", " else ", " and ", " or ", "not ", "min(", "max(", "floor(", "den(", "g0(", "t1(", "a0", "a3", "f1.free", "clock"]
+    + ["//", "<=", "<>", ">=", " ", "1:2", "2.50", "0:1", "1:0", "min.x", "if a0 then 1 else "]
+)
+TOKENS = (
+    "a0 a1 1 0 1:2 g0 clock x if then else and or not not - - + * / // % ^ ^ = < >= ( ( ( ) ) ) , "
+    "floor( min( max( g0( t0( abs( if if then then else else"
+).split()
+
+
+def random_leaf(chance):
+    return chance.choice((
+        ("name", f"a{chance.randrange(N)}", ()), ("name", chance.choice(list(reference.READ)), ()),
+        ("name", f"g{chance.randrange(64)}", ()), ("number", Fraction(0), ()), ("number", Fraction(1), ()),
+        ("number", Fraction(chance.randrange(9), chance.randrange(1, 9)), ()),
+    ))
+
+
+def random_tree(chance, depth):
+    if depth <= 0 or chance.random() < 0.1:
+        return random_leaf(chance)
+
+    def parts(count):
+        return tuple(random_tree(chance, depth - 1 - chance.randrange(2)) for part in range(count))
+
+    form = chance.choice(("and", "or", "if", "and", "or", "if", "one", "one", "two", "two", "pick", "formula", "table"))
+    if form == "one":
+        return ("one", chance.choice(reference.ONE + ["-", "not"] * 3), parts(1))
+    if form == "two":
+        return ("two", chance.choice(reference.TWO), parts(2))
+    if form == "pick":
+        return ("pick", chance.choice(("min", "max")), parts(chance.randrange(1, 5)))
+    if form == "formula":
+        return ("call", f"g{chance.randrange(64)}", parts(chance.randrange(1, 4)))
+    if form == "table":
+        return ("call", f"t{chance.randrange(64)}", parts(1))
+    return (form, 0, parts(3 if form == "if" else 2))
+
+
+def with_fault(chance, rows):
+    """The instructions with one of them left out, doubled, moved, or with a number changed."""
+    rows = list(rows)
+    place = chance.randrange(len(rows))
+    other = chance.randrange(len(rows))
+    what = chance.randrange(6)
+    if what == 0:
+        rows.pop(place)
+    elif what == 1:
+        rows.insert(place, rows[other])
+    elif what == 2:
+        rows[place], rows[other] = rows[other], rows[place]
+    elif what == 3:
+        rows[place] = tuple(number + chance.choice((0, -1, 1)) for number in rows[place])
+    else:
+        jumps = [i for i in range(len(rows)) if rows[i][0] in (5, 6)] or [place]
+        place = chance.choice(jumps)
+        rows[place] = rows[place][:-1] + (rows[place][-1] + chance.choice((-2, -1, 1, 2)),)
+    return rows
+
+
+def with_changed_signs(chance, text):
+    for step in range(chance.randrange(1, 4)):
+        place = chance.randrange(len(text) + 1)
+        fragment = chance.choice(("", chance.choice(FRAGMENTS)))
+        text = text[:place] + fragment + text[place + chance.randrange(2):]
+    return text
+
+
+class AgainstReference(unittest.TestCase):
+    def held_row(self, numbers):
+        wanted = reference.tree(N, numbers)
+        answer = tree(N, numbers)
+        self.assertEqual(answer, wanted[1] if wanted[0] == 0 else wanted, numbers)
+        return answer if wanted[0] == 0 else None
+
+    def held_text(self, text):
+        wanted = reference.code(N, text)
+        self.assertEqual(code(N, text), wanted, text)
+        return wanted[0]
+
+    def test_rows(self):
+        chance = random.Random(21)
+        taken = 0
+        for round_number in range(3000):
+            rows = reference.rows_of(random_tree(chance, chance.randrange(1, 6)), N)
+            numbers = reference.flat(rows)
+            if len(numbers) > 300:
+                continue
+            text = self.held_row(numbers)
+            self.assertIsNotNone(text)
+            self.assertEqual(row(N, text), numbers)
+            for fault in range(3):
+                wrong = reference.flat(with_fault(chance, rows))
+                found = self.held_row(wrong)
+                if found is not None:
+                    taken += 1
+                    self.assertEqual(row(N, found), wrong)
+        self.assertGreater(taken, 100)
+
+    def test_short_rows_of_any_instructions(self):
+        chance = random.Random(22)
+        some = [(1, 0), (1, 0), (0, 1, 1), (0, 0, 1), (6, 2), (6, 3), (6, 4), (6, 7), (5, 1), (5, 2), (5, 3), (9,), (9,), (3, 0),
+                (4, 0), (10, 0), (10, 1), (8, 0, 2)]
+        for round_number in range(20000):
+            rows = [(1, 0)] + [chance.choice(some) for step in range(chance.randrange(1, 9))]
+            self.held_row(reference.flat(rows))
+
+    def test_texts(self):
+        chance = random.Random(23)
+        counts = {}
+        for round_number in range(4000):
+            text = reference.printed(random_tree(chance, chance.randrange(1, 6)))
+            self.held_text(text)
+            for step in range(2):
+                answer = self.held_text(with_changed_signs(chance, text))
+                counts[answer] = counts.get(answer, 0) + 1
+        for answer in (0, -6, -8):
+            self.assertGreater(counts[answer], 50)
+
+    def test_rows_of_tokens(self):
+        chance = random.Random(24)
+        taken = 0
+        for round_number in range(40000):
+            text = " ".join(chance.choice(TOKENS) for step in range(chance.randrange(1, 9)))
+            taken += self.held_text(text) == 0
+        self.assertGreater(taken, 500)
+
+
+if __name__ == "__main__":
+    unittest.main()
