@@ -1,4 +1,4 @@
-"""The package keeps to the small part of Python that it is written in: the rules of LANGUAGE.md that can be seen by a program."""
+"""The package keeps to the small part of Python that it is written in: many of LANGUAGE.md's rules, not all."""
 
 import ast
 import builtins
