@@ -1,4 +1,4 @@
-"""Exact numbers: a numerator and a denominator in lowest terms."""
+"""Exact numbers: pairs of a numerator and a denominator, which is above 0, in lowest terms."""
 
 LARGEST = 1000000000000000000
 
@@ -13,8 +13,8 @@ def common_divisor(a, b):
 
 
 def lowest_terms(numerator, denominator):
-    """The pair for numerator / denominator, not below 0 and with a denominator above 0."""
-    divisor = common_divisor(numerator, denominator)
+    """The pair for numerator / denominator, which has a denominator above 0."""
+    divisor = common_divisor(abs(numerator), denominator)
     return (numerator // divisor, denominator // divisor)
 
 

@@ -21,6 +21,33 @@ TWO_SIGNS = (
     (61,), (60, 62), (60,), (60, 61), (62,), (62, 61),
 )
 
+# The numbers behind instruction 3, by name; the last one is den.
+NEGATE = 0
+NOT = 1
+FLOOR = 2
+CEIL = 3
+ABS = 4
+SIGN = 5
+NUM = 6
+
+# The numbers behind instruction 4, by name; from EQUAL on they are comparisons, the last one is >=.
+PLUS = 0
+MINUS = 1
+TIMES = 2
+DIVIDE = 3
+DIVIDE_DOWN = 4
+REST = 5
+POWER = 6
+EQUAL = 7
+UNEQUAL = 8
+BELOW = 9
+AT_MOST = 10
+ABOVE = 11
+
+# The numbers behind instruction 10, by name.
+LEAST = 0
+GREATEST = 1
+
 # Kinds go from 0, the weakest, to this one, which never wants brackets.
 STRONGEST = 9
 ONE_KINDS = (7, 3, 9, 9, 9, 9, 9, 9)

@@ -1,6 +1,8 @@
 """The calls: each takes whole numbers and lists of them, and answers a list of whole numbers."""
 
+from stackback.folding import folded
 from stackback.grammar import expression_of
+from stackback.measuring import measures_of
 from stackback.nodes import DEEPEST, HIGHEST
 from stackback.printing import nesting_of, printed
 from stackback.recovering import simple_expression_of
@@ -62,5 +64,23 @@ def code(n, text):
     try:
         check_parameters(n)
         return done(taken_text(n, text))
+    except Refusal as refusal:
+        return [refusal.number]
+
+
+def fold(n, code):
+    """The code of a code's simple expression when that is folded."""
+    try:
+        check_parameters(n)
+        return done(code_of(folded(taken_code(n, code)), n))
+    except Refusal as refusal:
+        return [refusal.number]
+
+
+def measure(n, code):
+    """Five numbers that are measured of a code's simple expression."""
+    try:
+        check_parameters(n)
+        return [0] + measures_of(taken_code(n, code), n)
     except Refusal as refusal:
         return [refusal.number]

@@ -33,3 +33,24 @@ def tree(n, numbers):
 def back(n, text):
     """A text's code printed again."""
     return tree(n, row(n, text))
+
+
+def folded_row(n, numbers):
+    """The numbers of a code when it is folded; the code must be taken."""
+    answer = stackback.stackcode.fold(n, numbers)
+    if answer[0] != 0 or answer[1] != len(answer) - 2:
+        raise AssertionError(f"{numbers} is answered with {answer}")
+    return answer[2:]
+
+
+def folded(n, text):
+    """A text's code folded and printed again."""
+    return tree(n, folded_row(n, row(n, text)))
+
+
+def measured(n, text):
+    """The five numbers of a text's code."""
+    answer = stackback.stackcode.measure(n, row(n, text))
+    if answer[0] != 0 or len(answer) != 6:
+        raise AssertionError(f"{text!r} is answered with {answer}")
+    return answer[1:]

@@ -8,6 +8,8 @@ code of at most one simple expression is asked for on the way.
 A tree is a tuple: a form, a detail and the parts.
 """
 
+import math
+import operator
 import re
 from fractions import Fraction
 
@@ -449,19 +451,143 @@ def simple_tree(row, n):
     return tree
 
 
+def taken(n, row):
+    """The simple tree of a code, if the call isn't refused, and its text."""
+    if not 0 <= n <= 8:
+        raise Refused(-1)
+    if len(row) > 500:
+        raise Refused(-2)
+    found = simple_tree(row, n)
+    if height(found) > 32:
+        raise Refused(-4)
+    text = printed(found)
+    if nesting(text) > 32:
+        raise Refused(-4)
+    return found, text
+
+
 def tree(n, row):
     """What tree answers, but with a text of Python behind the 0."""
     try:
-        if not 0 <= n <= 8:
-            raise Refused(-1)
-        if len(row) > 500:
-            raise Refused(-2)
-        found = simple_tree(row, n)
-        if height(found) > 32:
-            raise Refused(-4)
-        text = printed(found)
-        if nesting(text) > 32:
-            raise Refused(-4)
+        return [0, taken(n, row)[1]]
     except Refused as refused:
         return [refused.args[0]]
-    return [0, text]
+
+
+# --- folding
+
+COMPARE = {"=": operator.eq, "<>": operator.ne, "<": operator.lt, "<=": operator.le, ">": operator.gt, ">=": operator.ge}
+WORK = {"+": operator.add, "-": operator.sub, "*": operator.mul, "/": operator.truediv, "//": operator.floordiv, "%": operator.mod}
+LONE = {
+    "-": operator.neg, "not": lambda a: a == 0, "floor": math.floor, "ceil": math.ceil, "abs": abs,
+    "sign": lambda a: (a > 0) - (a < 0), "num": lambda a: a.numerator, "den": lambda a: a.denominator,
+}
+
+
+def value(tree):
+    """What a standing number is worth; None for any other tree."""
+    form, detail, parts = tree
+    if form == "number":
+        return detail
+    if (form, detail) == ("one", "-") and parts[0][0] == "number":
+        return -parts[0][1]
+    return None
+
+
+def standing(result):
+    if result < 0:
+        return ("one", "-", (standing(-result),))
+    return ("number", Fraction(int(result) if isinstance(result, bool) else result), ())
+
+
+def work(sign, a, b):
+    """What two numbers give, or None for an error."""
+    if sign in COMPARE:
+        return Fraction(COMPARE[sign](a, b))
+    if sign == "^":
+        if b not in range(-64, 65) or a == 0 and b < 0:
+            return None
+        result = Fraction(a) ** int(b)
+    elif sign in ("/", "//", "%") and b == 0:
+        return None
+    else:
+        result = Fraction(WORK[sign](a, b))
+    return result if -BIG <= result.numerator <= BIG and result.denominator <= BIG else None
+
+
+def is_number(tree, number):
+    return tree[0] == "number" and tree[1] == number
+
+
+def folded(tree):
+    form, detail, parts = tree
+    parts = tuple(folded(part) for part in parts)
+    tree = (form, detail, parts)
+    values = [value(part) for part in parts]
+    known = None not in values
+    if form == "one" and known:
+        return standing(LONE[detail](values[0]))
+    if form == "pick" and known:
+        return standing((min if detail == "min" else max)(values))
+    if form == "two" and known:
+        result = work(detail, *values)
+        return tree if result is None else standing(result)
+    if form == "two":
+        return without_idle(tree)
+    if form == "if" and values[0] is not None:
+        return parts[1] if values[0] else parts[2]
+    if form in ("and", "or") and values[0] is not None:
+        if bool(values[0]) == (form == "or"):
+            return standing(form == "or")
+        if values[1] is not None:
+            return standing(values[1] != 0)
+        truth = parts[1][0] in ("and", "or") or parts[1][1] == "not" or parts[1][0] == "two" and parts[1][1] in COMPARISONS
+        return parts[1] if truth else tree
+    return tree
+
+
+def without_idle(tree):
+    sign, (left, right) = tree[1:]
+    if sign == "+" and is_number(left, 0) or sign == "*" and is_number(left, 1):
+        return right
+    if sign in "+-" and is_number(right, 0) or sign in ("*", "/", "^") and is_number(right, 1):
+        return left
+    return tree
+
+
+def fold(n, row):
+    """What fold answers."""
+    try:
+        new = flat(rows_of(folded(taken(n, row)[0]), n))
+    except Refused as refused:
+        return [refused.args[0]]
+    return [0, len(new)] + new
+
+
+# --- measuring
+
+def every(tree):
+    return [tree] + [below for part in tree[2] for below in every(part)]
+
+
+def need(tree):
+    form, detail, parts = tree
+    if form in ("number", "name"):
+        return 1
+    if form == "one":
+        return need(parts[0])
+    if form == "two":
+        return max(need(parts[0]), 1 + need(parts[1]))
+    if form in ("and", "or", "if"):
+        return max(need(part) for part in parts)
+    return max(j + need(parts[j]) for j in range(len(parts)))
+
+
+def measure(n, row):
+    """What measure answers."""
+    try:
+        found = taken(n, row)[0]
+    except Refused as refused:
+        return [refused.args[0]]
+    names = {part[1] for part in every(found) if part[0] in ("name", "call")}
+    return [0, len(rows_of(found, n)), height(found), len(every(found)), len(names), need(found)]

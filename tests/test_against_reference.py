@@ -5,9 +5,11 @@ import unittest
 from fractions import Fraction
 
 import reference
+import stackback.stackcode
 from helper import code, row, tree
 
 N = 3
+BIG = 10 ** 18
 FRAGMENTS = (
     list("()-+*/%^=<>,.:_019abfgtzAZ#")
     + ["if ", " then ", " else ", " and ", " or ", "not ", "min(", "max(", "floor(", "den(", "g0(", "t1(", "a0", "a3", "f1.free", "clock"]
@@ -46,6 +48,27 @@ def random_tree(chance, depth):
     if form == "table":
         return ("call", f"t{chance.randrange(64)}", parts(1))
     return (form, 0, parts(3 if form == "if" else 2))
+
+
+def random_number(chance):
+    """A number that is 0, 1, small, large, or at the bounds."""
+    return chance.choice((
+        Fraction(0), Fraction(1), Fraction(chance.randrange(10)), Fraction(chance.randrange(10), chance.randrange(1, 10)),
+        Fraction(chance.choice((BIG, BIG - 1, BIG // 2, 10 ** 9, 63, 64, 65))),
+        Fraction(chance.choice((1, 2, 3, BIG - 1)), chance.choice((BIG, BIG - 1, BIG // 2, 10 ** 9, 10 ** 9 + 1))),
+        Fraction(chance.randrange(BIG + 1), chance.randrange(1, BIG + 1)),
+    ))
+
+
+def with_numbers(chance, tree, share):
+    """The tree with numbers, half of them with a - before, in the place of a share of its leaves."""
+    form, detail, parts = tree
+    if parts:
+        return (form, detail, tuple(with_numbers(chance, part, share) for part in parts))
+    if chance.random() >= share:
+        return tree
+    number = ("number", random_number(chance), ())
+    return chance.choice((number, ("one", "-", (number,))))
 
 
 def with_fault(chance, rows):
@@ -135,6 +158,38 @@ class AgainstReference(unittest.TestCase):
             text = " ".join(chance.choice(TOKENS) for step in range(chance.randrange(1, 9)))
             taken += self.held_text(text) == 0
         self.assertGreater(taken, 500)
+
+    def held_folded_and_measured(self, numbers):
+        """Gives back what comes of folding, or None if the code is refused."""
+        wanted = reference.fold(N, numbers)
+        self.assertEqual(stackback.stackcode.fold(N, numbers), wanted, numbers)
+        self.assertEqual(stackback.stackcode.measure(N, numbers), reference.measure(N, numbers), numbers)
+        return wanted[2:] if wanted[0] == 0 else None
+
+    def test_folding_and_measuring(self):
+        chance = random.Random(25)
+        changed = 0
+        for round_number in range(4000):
+            found = with_numbers(chance, random_tree(chance, chance.randrange(1, 6)), chance.choice((0.3, 0.6, 0.9, 1)))
+            rows = reference.rows_of(found, N)
+            numbers = reference.flat(rows)
+            if len(numbers) > 300:
+                continue
+            after = self.held_folded_and_measured(numbers)
+            self.assertIsNotNone(after)
+            changed += after != numbers
+            # What comes of folding is a code that is taken again.
+            self.assertIsNotNone(self.held_folded_and_measured(after))
+            self.assertLessEqual(len(after), len(numbers))
+            self.held_folded_and_measured(reference.flat(with_fault(chance, rows)))
+        self.assertGreater(changed, 2000)
+
+    def test_folding_of_two_numbers(self):
+        chance = random.Random(26)
+        for round_number in range(6000):
+            parts = tuple(with_numbers(chance, ("name", "a0", ()), 1) for part in range(2))
+            found = ("two", chance.choice(reference.TWO), parts)
+            self.held_folded_and_measured(reference.flat(reference.rows_of(found, N)))
 
 
 if __name__ == "__main__":

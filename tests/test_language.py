@@ -305,6 +305,8 @@ class Interface(unittest.TestCase):
                  if isinstance(node, ast.FunctionDef)}
         self.assertEqual(found["tree"], ["n", "code"])
         self.assertEqual(found["code"], ["n", "text"])
+        self.assertEqual(found["fold"], ["n", "code"])
+        self.assertEqual(found["measure"], ["n", "code"])
 
 
 if __name__ == "__main__":
