@@ -84,3 +84,24 @@ def measure(n, code):
         return [0] + measures_of(taken_code(n, code), n)
     except Refusal as refusal:
         return [refusal.number]
+
+
+def canon(n, text):
+    """The simple expression of a text's code, printed."""
+    try:
+        check_parameters(n)
+        # No check of its height: the simple expression is never higher than the text.
+        return done(printed(simple_expression_of(taken_text(n, text), n)))
+    except Refusal as refusal:
+        return [refusal.number]
+
+
+def same(n, text, other):
+    """Whether two texts have the same code."""
+    try:
+        check_parameters(n)
+        first = taken_text(n, text)
+        second = taken_text(n, other)
+        return [0, 1 if first == second else 0]
+    except Refusal as refusal:
+        return [refusal.number]

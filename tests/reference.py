@@ -274,25 +274,61 @@ def flat(rows):
     return [number for row in rows for number in row]
 
 
+def taken_text(n, text):
+    """The tree of a text of Python, if the call isn't refused, and its code."""
+    if not 0 <= n <= 8:
+        raise Refused(-1)
+    if len(text) > 2000:
+        raise Refused(-5)
+    reader = Reader(text)
+    tree = reader.whole()
+    if reader.deepest > 32:
+        raise Refused(-6)
+    if height(tree) > 32:
+        raise Refused(-7)
+    row = flat(rows_of(tree, n))
+    if len(row) > 500:
+        raise Refused(-2)
+    return tree, row
+
+
 def code(n, text):
     """What code answers; text is a text of Python here."""
     try:
-        if not 0 <= n <= 8:
-            raise Refused(-1)
-        if len(text) > 2000:
-            raise Refused(-5)
-        reader = Reader(text)
-        tree = reader.whole()
-        if reader.deepest > 32:
-            raise Refused(-6)
-        if height(tree) > 32:
-            raise Refused(-7)
-        row = flat(rows_of(tree, n))
-        if len(row) > 500:
-            raise Refused(-2)
+        row = taken_text(n, text)[1]
     except Refused as refused:
         return [refused.args[0]]
     return [0, len(row)] + row
+
+
+def simplified(tree):
+    """The simple tree with the code of a tree, made without a look at that code."""
+    form, detail, parts = tree
+    parts = tuple(simplified(part) for part in parts)
+    if form == "pick" and len(parts) == 1:
+        return parts[0]
+    if form == "pick" and parts[-1][:2] == (form, detail):
+        return (form, detail, parts[:-1] + parts[-1][2])
+    return (form, detail, parts)
+
+
+def canon(n, text):
+    """What canon answers, but with a text of Python behind the 0."""
+    try:
+        tree, row = taken_text(n, text)
+    except Refused as refused:
+        return [refused.args[0]]
+    if flat(rows_of(simplified(tree), n)) != row:
+        raise AssertionError("a simple expression with another code")
+    return [0, printed(simplified(tree))]
+
+
+def same(n, text, other):
+    """What same answers; the texts are texts of Python here."""
+    try:
+        return [0, int(taken_text(n, text)[1] == taken_text(n, other)[1])]
+    except Refused as refused:
+        return [refused.args[0]]
 
 
 # --- printing

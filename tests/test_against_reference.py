@@ -6,7 +6,7 @@ from fractions import Fraction
 
 import reference
 import stackback.stackcode
-from helper import code, row, tree
+from helper import canon, code, row, same, tree
 
 N = 3
 BIG = 10 ** 18
@@ -69,6 +69,28 @@ def with_numbers(chance, tree, share):
         return tree
     number = ("number", random_number(chance), ())
     return chance.choice((number, ("one", "-", (number,))))
+
+
+def written(chance, tree):
+    """A tree as a text with brackets, blanks, zeros and words of one part that are not needed."""
+    form, detail, parts = tree
+    if form == "number":
+        times = chance.choice((1, 1, 2, 10))
+        text = f"0{detail.numerator * times}:{detail.denominator * times}" if chance.random() < 0.5 else reference.printed(tree)
+    elif form == "name":
+        text = detail
+    else:
+        inner = [written(chance, part) for part in parts]
+        blank = chance.choice(("", " ", "\t", "  "))
+        if form in ("and", "or"):
+            text = f"({inner[0]}){blank}{form}{blank}({inner[1]})"
+        elif form == "two":
+            text = f"({inner[0]}){blank}{detail}{blank}({inner[1]})"
+        elif form == "if":
+            text = f"if ({inner[0]}){blank}then ({inner[1]})\nelse {inner[2]}"
+        else:
+            text = f"{detail}{blank}(" + f"{blank},{blank}".join(inner) + ")"
+    return chance.choice(("{}",) * 6 + ("({})", "min({})", "max({})", " {} ")).format(text)
 
 
 def with_fault(chance, rows):
@@ -150,6 +172,36 @@ class AgainstReference(unittest.TestCase):
                 counts[answer] = counts.get(answer, 0) + 1
         for answer in (0, -6, -8):
             self.assertGreater(counts[answer], 50)
+
+    def held_canon(self, text):
+        """Gives back what canon tells, or None if the text is refused."""
+        wanted = reference.canon(N, text)
+        answer = canon(N, text)
+        self.assertEqual(answer, wanted[1] if wanted[0] == 0 else wanted, text)
+        return answer if wanted[0] == 0 else None
+
+    def test_canon_and_same(self):
+        chance = random.Random(27)
+        counts = {}
+        changed = 0
+        before = "a0"
+        for round_number in range(3000):
+            text = written(chance, random_tree(chance, chance.randrange(1, 6)))
+            found = self.held_canon(text)
+            if found is not None:
+                changed += found.replace(" ", "") != text.replace(" ", "")
+                self.assertEqual(self.held_canon(found), found)
+                self.assertEqual(same(N, text, found), [0, 1])
+            other = with_changed_signs(chance, text)
+            self.held_canon(other)
+            for first, second in ((text, other), (other, text), (before, other), (other, other)):
+                answer = same(N, first, second)
+                self.assertEqual(answer, reference.same(N, first, second), (first, second))
+                counts[tuple(answer)] = counts.get(tuple(answer), 0) + 1
+            before = other
+        self.assertGreater(changed, 1000)
+        for answer in ((0, 0), (0, 1), (-6,), (-8,)):
+            self.assertGreater(counts[answer], 100)
 
     def test_rows_of_tokens(self):
         chance = random.Random(24)

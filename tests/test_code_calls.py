@@ -4,7 +4,7 @@ import sys
 import unittest
 
 from stackback.stackcode import fold, measure, tree
-from helper import row
+from helper import Watched, row
 
 BIG = 10 ** 18
 A = [1, 0]
@@ -39,16 +39,6 @@ def deep(more):
     for step in range(more):
         inner = negated(inner)
     return inner[0]
-
-
-class Watched(list):
-    """A list that may only be read."""
-
-    def refuse(self, *arguments):
-        raise AssertionError("a list that was handed in is changed")
-
-    append = extend = insert = pop = remove = clear = sort = reverse = refuse
-    __setitem__ = __delitem__ = __iadd__ = __imul__ = refuse
 
 
 class CodeCalls(unittest.TestCase):

@@ -307,6 +307,8 @@ class Interface(unittest.TestCase):
         self.assertEqual(found["code"], ["n", "text"])
         self.assertEqual(found["fold"], ["n", "code"])
         self.assertEqual(found["measure"], ["n", "code"])
+        self.assertEqual(found["canon"], ["n", "text"])
+        self.assertEqual(found["same"], ["n", "text", "other"])
 
 
 if __name__ == "__main__":

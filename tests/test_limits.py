@@ -4,7 +4,7 @@ import sys
 import unittest
 
 import stackback.stackcode
-from helper import code, row, signs, tree
+from helper import Watched, code, row, signs, tree
 
 BIG = 10 ** 18
 A = [1, 0]
@@ -137,12 +137,6 @@ class Handed(unittest.TestCase):
             self.assertEqual(given, signs(text))
 
     def test_not_changed_for_a_while_either(self):
-        class Watched(list):
-            def refuse(self, *arguments):
-                raise AssertionError("a list that was handed in is changed")
-            append = extend = insert = pop = remove = clear = sort = reverse = refuse
-            __setitem__ = __delitem__ = __iadd__ = __imul__ = refuse
-
         self.assertEqual(stackback.stackcode.code(1, Watched(signs("min(a0, f1.free) + 2.5"))),
                          [0, 11, 1, 0, 2, 257, 10, 0, 0, 5, 2, 4, 0])
         for text in ("a0 and a1 or -2", "if a0 then 1 else g1(a0, t0(a1))", "max(a0, a1, 1)"):

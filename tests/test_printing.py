@@ -2,37 +2,7 @@
 
 import unittest
 
-from helper import back, row, tree
-
-# For each kind, the weakest first, texts of that kind.
-KINDS = [
-    ["if a0 then a1 else a2"],
-    ["a0 or a1"],
-    ["a0 and a1"],
-    ["not a0"],
-    ["a0 = a1", "a0 <> a1", "a0 < a1", "a0 <= a1", "a0 > a1", "a0 >= a1"],
-    ["a0 + a1", "a0 - a1"],
-    ["a0 * a1", "a0 / a1", "a0 // a1", "a0 % a1"],
-    ["-a0"],
-    ["a0 ^ a1"],
-    ["a0", "5", "5:2", "clock", "f1.free", "g1", "g1(a0)", "g2(a0, a1)", "t1(a0)", "floor(a0)", "ceil(a0)", "abs(a0)",
-     "sign(a0)", "num(a0)", "den(a0)", "min(a0, a1)", "max(a0, a1, a2)"],
-]
-
-# The text with a gap for the part, and the weakest kind that stands there without brackets.
-PLACES = [
-    ("if {} then a1 else a2", 0), ("if a0 then {} else a2", 0), ("if a0 then a1 else {}", 0),
-    ("{} or a3", 1), ("a3 or {}", 2), ("{} and a3", 2), ("a3 and {}", 3), ("not {}", 3),
-    ("-{}", 7), ("{} ^ a3", 9), ("a3 ^ {}", 7),
-    ("floor({})", 0), ("ceil({})", 0), ("abs({})", 0), ("sign({})", 0), ("num({})", 0), ("den({})", 0),
-    ("min({}, a3)", 0), ("max({}, a3)", 0), ("max(a3, {}, a3)", 0), ("g3({})", 0), ("g3({}, a3)", 0), ("g3(a3, {})", 0),
-    ("t3({})", 0),
-]
-PLACES += [(f"{{}} {sign} a3", 5) for sign in "= <> < <= > >= + -".split()]
-PLACES += [(f"a3 {sign} {{}}", 5) for sign in "= <> < <= > >=".split()]
-PLACES += [(f"a3 {sign} {{}}", 6) for sign in "+ -".split()]
-PLACES += [(f"{{}} {sign} a3", 6) for sign in "* / // %".split()]
-PLACES += [(f"a3 {sign} {{}}", 7) for sign in "* / // %".split()]
+from helper import KINDS, PLACES, back, row, tree
 
 
 class Brackets(unittest.TestCase):
