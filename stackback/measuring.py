@@ -4,6 +4,7 @@ Only expressions that are not too high come here, so that calls within one
 another go no deeper than their height.
 """
 
+from stackback.cutting import all_parts
 from stackback.nodes import AND, CALL, IF, NAME, OR
 from stackback.writing import instructions_of
 
@@ -12,14 +13,6 @@ def measures_of(node, n):
     """How many instructions, the height, how many parts, how many names, and the need."""
     whole = all_parts(node)
     return [len(instructions_of(node, n)), node.height, len(whole), count_of_names(whole), need_of(node)]
-
-
-def all_parts(node):
-    """An expression, its parts, their parts and so on, each before its own parts."""
-    found = [node]
-    for part in node.parts:
-        found.extend(all_parts(part))
-    return found
 
 
 def count_of_names(expressions):

@@ -17,7 +17,7 @@ class WrongParameterCount(Refusal):
 
 
 class CodeTooLong(Refusal):
-    """A code that is handed in or comes of a text has too many numbers."""
+    """A code that is handed in, or comes of a text or of an exchange, has too many numbers."""
 
     def __init__(self):
         Refusal.__init__(self, -2)
@@ -31,7 +31,7 @@ class NoCode(Refusal):
 
 
 class CodeTooDeep(Refusal):
-    """A code's simple expression is too high, or too deeply nested when printed."""
+    """A code's simple expression, or what comes of an exchange, is too high, or too deeply nested when printed."""
 
     def __init__(self):
         Refusal.__init__(self, -4)
@@ -63,3 +63,10 @@ class WrongName(Refusal):
 
     def __init__(self):
         Refusal.__init__(self, -8)
+
+
+class NoPart(Refusal):
+    """An expression has no part of this number."""
+
+    def __init__(self):
+        Refusal.__init__(self, -12)

@@ -1,13 +1,14 @@
 """The calls: each takes whole numbers and lists of them, and answers a list of whole numbers."""
 
+from stackback.cutting import all_parts, exchanged, told_parts
 from stackback.folding import folded
 from stackback.grammar import expression_of
 from stackback.measuring import measures_of
 from stackback.nodes import DEEPEST, HIGHEST
 from stackback.printing import nesting_of, printed
 from stackback.recovering import simple_expression_of
-from stackback.refusals import CodeTooDeep, CodeTooLong, Refusal, TextTooHigh, TextTooLong, WrongParameterCount
-from stackback.writing import code_of
+from stackback.refusals import CodeTooDeep, CodeTooLong, NoPart, Refusal, TextTooHigh, TextTooLong, WrongParameterCount
+from stackback.writing import code_of, joined
 
 MOST_PARAMETERS = 8
 LONGEST_CODE = 500
@@ -24,12 +25,17 @@ def check_length(numbers):
         raise CodeTooLong()
 
 
+def check_depth(node):
+    # The height goes first: only what is not too high may be gone through by calls.
+    if node.height > HIGHEST or nesting_of(node) > DEEPEST:
+        raise CodeTooDeep()
+
+
 def taken_code(n, numbers):
     """The simple expression of a code, unless the code is refused."""
     check_length(numbers)
     node = simple_expression_of(numbers, n)
-    if node.height > HIGHEST or nesting_of(node) > DEEPEST:
-        raise CodeTooDeep()
+    check_depth(node)
     return node
 
 
@@ -103,5 +109,32 @@ def same(n, text, other):
         first = taken_text(n, text)
         second = taken_text(n, other)
         return [0, 1 if first == second else 0]
+    except Refusal as refusal:
+        return [refusal.number]
+
+
+def parts(n, code):
+    """All parts of a code's simple expression, four numbers for each."""
+    try:
+        check_parameters(n)
+        rows = told_parts(taken_code(n, code), n)
+        return [0, len(rows)] + joined(rows)
+    except Refusal as refusal:
+        return [refusal.number]
+
+
+def put(n, i, code, other):
+    """The code of a code's simple expression when its part number i is replaced by another code's."""
+    try:
+        check_parameters(n)
+        first = taken_code(n, code)
+        second = taken_code(n, other)
+        if not 0 <= i < len(all_parts(first)):
+            raise NoPart()
+        whole = exchanged(first, i, second)
+        check_depth(whole)
+        numbers = code_of(whole, n)
+        check_length(numbers)
+        return done(numbers)
     except Refusal as refusal:
         return [refusal.number]

@@ -109,3 +109,24 @@ def measured(n, text):
     if answer[0] != 0 or len(answer) != 6:
         raise AssertionError(f"{text!r} is answered with {answer}")
     return answer[1:]
+
+
+def parted(n, numbers):
+    """The rows of four numbers that parts tells of a code; the code must be taken."""
+    answer = stackback.stackcode.parts(n, numbers)
+    if answer[0] != 0 or len(answer) != 2 + 4 * answer[1]:
+        raise AssertionError(f"{numbers} is answered with {answer}")
+    return [tuple(answer[at:at + 4]) for at in range(2, len(answer), 4)]
+
+
+def put(n, i, text, other):
+    """What put answers for the codes of two texts."""
+    return stackback.stackcode.put(n, i, row(n, text), row(n, other))
+
+
+def put_row(n, i, text, other):
+    """The numbers of the code that comes; nothing may be refused."""
+    answer = put(n, i, text, other)
+    if answer[0] != 0 or answer[1] != len(answer) - 2:
+        raise AssertionError(f"part {i} of {text!r}, {other!r} is answered with {answer}")
+    return answer[2:]

@@ -627,3 +627,67 @@ def measure(n, row):
         return [refused.args[0]]
     names = {part[1] for part in every(found) if part[0] in ("name", "call")}
     return [0, len(rows_of(found, n)), height(found), len(every(found)), len(names), need(found)]
+
+
+# --- parts
+
+FORMS = ["number", "name", "one", "two", "and", "or", "if", "pick", "call"]
+
+
+def begins(tree, n):
+    """Where the code of each part begins, counted from where the tree's own code does."""
+    form, detail, parts = tree
+    sizes = [len(rows_of(part, n)) for part in parts]
+    if form == "and":
+        return [0, sizes[0] + 1]
+    if form == "or":
+        return [0, sizes[0] + 3]
+    if form == "if":
+        return [0, sizes[0] + 1, sizes[0] + 1 + sizes[1] + 1]
+    return [sum(sizes[:j]) for j in range(len(parts))]
+
+
+def told(tree, n, begin=0):
+    rows = [[FORMS.index(tree[0]), begin, len(rows_of(tree, n)), height(tree)]]
+    for part, start in zip(tree[2], begins(tree, n)):
+        rows += told(part, n, begin + start)
+    return rows
+
+
+def parts(n, row):
+    """What parts answers."""
+    try:
+        rows = told(taken(n, row)[0], n)
+    except Refused as refused:
+        return [refused.args[0]]
+    return [0, len(rows)] + flat(rows)
+
+
+def paths(tree):
+    """For each of all parts, in order, which way leads to it."""
+    return [()] + [(j,) + path for j, part in enumerate(tree[2]) for path in paths(part)]
+
+
+def replaced(tree, path, new):
+    if not path:
+        return new
+    form, detail, parts = tree
+    return (form, detail, parts[:path[0]] + (replaced(parts[path[0]], path[1:], new),) + parts[path[0] + 1:])
+
+
+def put(n, i, row, other):
+    """What put answers."""
+    try:
+        first = taken(n, row)[0]
+        second = taken(n, other)[0]
+        if i not in range(len(every(first))):
+            raise Refused(-12)
+        new = replaced(first, paths(first)[i], second)
+        if height(new) > 32 or nesting(printed(new)) > 32:
+            raise Refused(-4)
+        numbers = flat(rows_of(new, n))
+        if len(numbers) > 500:
+            raise Refused(-2)
+    except Refused as refused:
+        return [refused.args[0]]
+    return [0, len(numbers)] + numbers

@@ -50,6 +50,20 @@ def random_tree(chance, depth):
     return (form, 0, parts(3 if form == "if" else 2))
 
 
+def high_tree(chance, height):
+    """A tree of this height, before it is made simple, in which each has at most one part that is no leaf."""
+    leaf = ("name", "a0", ())
+    found = leaf
+    for step in range(height - 1):
+        form, detail, count = chance.choice((
+            ("one", "-", 1), ("one", "not", 1), ("two", "^", 2), ("two", "+", 2), ("pick", "min", 2), ("pick", "min", 3), ("pick", "max", 2),
+            ("if", 0, 3), ("or", 0, 2), ("call", "g0", 1)))
+        parts = [leaf] * count
+        parts[chance.choice((0, count - 1))] = found
+        found = (form, detail, tuple(parts))
+    return found
+
+
 def random_number(chance):
     """A number that is 0, 1, small, large, or at the bounds."""
     return chance.choice((
@@ -185,7 +199,7 @@ class AgainstReference(unittest.TestCase):
         counts = {}
         changed = 0
         before = "a0"
-        for round_number in range(3000):
+        for round_number in range(2000):
             text = written(chance, random_tree(chance, chance.randrange(1, 6)))
             found = self.held_canon(text)
             if found is not None:
@@ -199,7 +213,7 @@ class AgainstReference(unittest.TestCase):
                 self.assertEqual(answer, reference.same(N, first, second), (first, second))
                 counts[tuple(answer)] = counts.get(tuple(answer), 0) + 1
             before = other
-        self.assertGreater(changed, 1000)
+        self.assertGreater(changed, 700)
         for answer in ((0, 0), (0, 1), (-6,), (-8,)):
             self.assertGreater(counts[answer], 100)
 
@@ -242,6 +256,72 @@ class AgainstReference(unittest.TestCase):
             parts = tuple(with_numbers(chance, ("name", "a0", ()), 1) for part in range(2))
             found = ("two", chance.choice(reference.TWO), parts)
             self.held_folded_and_measured(reference.flat(reference.rows_of(found, N)))
+
+    def held_parts(self, numbers):
+        """Gives back how many parts there are, or None if the code is refused."""
+        wanted = reference.parts(N, numbers)
+        self.assertEqual(stackback.stackcode.parts(N, numbers), wanted, numbers)
+        return wanted[1] if wanted[0] == 0 else None
+
+    def held_put(self, i, numbers, other):
+        wanted = reference.put(N, i, numbers, other)
+        self.assertEqual(stackback.stackcode.put(N, i, numbers, other), wanted, (i, numbers, other))
+        return wanted
+
+    def test_parts_and_put(self):
+        chance = random.Random(28)
+        counts = {}
+        others = [[1, 0]]
+        for round_number in range(1000):
+            rows = reference.rows_of(random_tree(chance, chance.randrange(1, 6)), N)
+            numbers = reference.flat(rows)
+            if len(numbers) > 300:
+                continue
+            count = self.held_parts(numbers)
+            self.assertIsNotNone(count)
+            wrong = reference.flat(with_fault(chance, rows))
+            self.held_parts(wrong)
+            for i in (0, count - 1, count, chance.randrange(-2, count + 2), chance.randrange(count)):
+                answer = self.held_put(i, numbers, chance.choice(others))
+                counts[answer[0]] = counts.get(answer[0], 0) + 1
+                if answer[0] == 0:
+                    # What comes is a code again.
+                    self.assertIsNotNone(self.held_parts(answer[2:]))
+            self.held_put(0, wrong, numbers)
+            self.held_put(count - 1, numbers, wrong)
+            others = others[-20:] + [numbers]
+        for answer in (0, -12):
+            self.assertGreater(counts[answer], 200)
+
+    def test_putting_wide_into_wide(self):
+        chance = random.Random(30)
+        counts = {}
+        leaves = ("a0", "1", "g0", "-a1", "g1(1, 2)")
+        for round_number in range(60):
+            numbers, other = [
+                row(N, chance.choice(("min", "max")) + "(" + ", ".join(chance.choice(leaves) for part in range(chance.randrange(20, 60))) + ")")
+                for code_number in range(2)
+            ]
+            for i in (1, chance.randrange(20), self.held_parts(numbers) - 1):
+                answer = self.held_put(i, numbers, other)
+                counts[answer[0]] = counts.get(answer[0], 0) + 1
+        for answer in (0, -2):
+            self.assertGreater(counts[answer], 20)
+
+    def test_putting_high_into_high(self):
+        chance = random.Random(29)
+        counts = {}
+        for round_number in range(400):
+            first, second = high_tree(chance, chance.randrange(8, 31)), high_tree(chance, chance.randrange(1, 24))
+            numbers, other = (reference.flat(reference.rows_of(found, N)) for found in (first, second))
+            count = self.held_parts(numbers)
+            if count is None:
+                continue
+            for i in [count - 1] + [chance.randrange(count) for step in range(4)]:
+                answer = self.held_put(i, numbers, other)
+                counts[answer[0]] = counts.get(answer[0], 0) + 1
+        for answer in (0, -4):
+            self.assertGreater(counts[answer], 100)
 
 
 if __name__ == "__main__":

@@ -1,14 +1,13 @@
-"""What fold and measure have in common with tree: when a code is refused, in which order, and what is left alone."""
+"""What tree, fold, measure, parts and put have in common: when a code is refused, in which order, and what is left alone."""
 
 import sys
 import unittest
 
-from stackback.stackcode import fold, measure, tree
+from stackback.stackcode import fold, measure, parts, put, tree
 from helper import Watched, row
 
 BIG = 10 ** 18
 A = [1, 0]
-CALLS = (tree, fold, measure)
 # 125 parts of 2 numbers, 124 joinings of 2, and - before it all.
 CODE_500 = A * 125 + [10, 0] * 124 + [3, 0]
 # The same with a number of 3 as its first part.
@@ -41,6 +40,23 @@ def deep(more):
     return inner[0]
 
 
+def put_first(n, numbers):
+    """What put answers where the second code is right."""
+    return put(n, 0, numbers, [0, 1, 1])
+
+
+def put_second(n, numbers):
+    """What put answers where the first code is right."""
+    return put(n, 0, [0, 1, 1], numbers)
+
+
+def put_both(n, numbers):
+    return put(n, 0, numbers, numbers)
+
+
+CALLS = (tree, fold, measure, parts, put_first, put_second, put_both)
+
+
 class CodeCalls(unittest.TestCase):
     def refused(self, n, numbers, answer):
         for call in CALLS:
@@ -60,15 +76,21 @@ class Refused(CodeCalls):
         for n in range(9):
             self.assertEqual(fold(n, [0, 1, 1, 0, 2, 1, 4, 0]), [0, 3, 0, 3, 1])
             self.assertEqual(measure(n, [0, 1, 1]), [0, 1, 1, 1, 0, 1])
+            self.assertEqual(parts(n, [0, 1, 1]), [0, 1, 0, 0, 1, 1])
+            self.assertEqual(put(n, 0, [0, 1, 1], [0, 2, 1]), [0, 3, 0, 2, 1])
             self.refused(n, [1, n], -3)
             if n > 0:
                 self.assertEqual(fold(n, [1, n - 1]), [0, 2, 1, n - 1])
                 self.assertEqual(measure(n, [1, n - 1]), [0, 1, 1, 1, 1, 1])
+                self.assertEqual(parts(n, [1, n - 1]), [0, 1, 1, 0, 1, 1])
+                self.assertEqual(put(n, 0, [1, n - 1], [1, n - 1]), [0, 2, 1, n - 1])
 
     def test_length(self):
         self.assertEqual((len(CODE_500), len(CODE_501)), (500, 501))
         self.assertEqual(fold(1, CODE_500), [0, 500] + CODE_500)
         self.assertEqual(measure(1, CODE_500), [0, 250, 3, 127, 1, 125])
+        self.assertEqual(parts(1, CODE_500)[:10], [0, 127, 2, 0, 250, 3, 7, 0, 249, 2])
+        self.assertEqual(put_both(1, CODE_500), [0, 500] + CODE_500)
         self.refused(1, CODE_501, -2)
         self.assertEqual(fold(1, CODE_501[:-2]), [0, 499] + CODE_501[:-2])
         self.refused(1, A * 1500, -2)
@@ -186,14 +208,17 @@ class LeftAlone(unittest.TestCase):
                 [0, 1, 1] * 32 + [4, 0] * 31, [0, 1, 1] + [0, 1, 1, 4, 0] * 31]
         try:
             sys.setrecursionlimit(depth + 150)
-            answers = [[call(1, numbers)[0] for numbers in rows] for call in (fold, measure)]
+            answers = [[call(1, numbers)[0] for numbers in rows] for call in CALLS]
         finally:
             sys.setrecursionlimit(limit)
-        self.assertEqual(answers, [[-4, -4, 0, 0, 0, 0, 0, 0, 0]] * 2)
+        self.assertEqual(answers, [[-4, -4, 0, 0, 0, 0, 0, 0, 0]] * len(CALLS))
 
     def test_arguments_by_name(self):
         self.assertEqual(fold(n=1, code=[0, 1, 1, 3, 1]), [0, 3, 0, 0, 1])
         self.assertEqual(measure(n=1, code=[1, 0]), [0, 1, 1, 1, 1, 1])
+        self.assertEqual(parts(n=1, code=[1, 0]), [0, 1, 1, 0, 1, 1])
+        self.assertEqual(put(n=1, i=0, code=[1, 0], other=[0, 1, 1]), [0, 3, 0, 1, 1])
+        self.assertEqual(put(other=[1, 0], code=[0, 2, 1, 3, 0], i=1, n=1), [0, 4, 1, 0, 3, 0])
 
 
 if __name__ == "__main__":

@@ -309,6 +309,8 @@ class Interface(unittest.TestCase):
         self.assertEqual(found["measure"], ["n", "code"])
         self.assertEqual(found["canon"], ["n", "text"])
         self.assertEqual(found["same"], ["n", "text", "other"])
+        self.assertEqual(found["parts"], ["n", "code"])
+        self.assertEqual(found["put"], ["n", "i", "code", "other"])
 
 
 if __name__ == "__main__":
